@@ -1,0 +1,1 @@
+"""Clashnumber: how many answers a contradiction takes."""
