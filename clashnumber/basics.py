@@ -62,6 +62,14 @@ def all_rows(columns):
     return tuple(rows)
 
 
+def nonempty_sets(values):
+    """All nonempty sets of these ascending values, as ascending tuples, those with fewer values first."""
+    sets = [()]
+    for value in values:
+        sets = sets + [some + (value,) for some in sets]
+    return tuple(sorted(sets[1:], key=lambda some: (len(some), some)))
+
+
 def words_of(text):
     """The words of each line of a text."""
     if not isinstance(text, str):

@@ -3,6 +3,7 @@
 from clashnumber.books import Book
 from clashnumber.errors import TooGreat
 from clashnumber.forms import Form
+from clashnumber.operations import Choice, Vote
 from clashnumber.tables import Table
 
 BITS = ("no", "yes")
@@ -10,6 +11,8 @@ TRIT = ("a", "b", "c")
 EITHER = Table(BITS, 2, (("no", "yes"), ("yes", "no"), ("yes", "yes")))
 NOTBOTH = Table(BITS, 2, (("no", "no"), ("no", "yes"), ("yes", "no")))
 PAIRS = Book(BITS, (("either", EITHER), ("notboth", NOTBOTH)))
+MOST = Vote.middle(BITS)
+LEAST = Choice.least(BITS)
 COAT = Form(PAIRS, ("a", "b", "c"), ("either", ("a", "b")), ("notboth", ("b", "c")), hidden=("b",))
 
 THIRTY = tuple("f" + letter for letter in "abcdefghijklmnopqrstuvwxyz") + ("ga", "gb", "gc", "gd")
@@ -31,12 +34,19 @@ STRANGE = (
     ((), ()), (None,), (True,), (0,), (1, 2), ("",), ([],), ({},), ("no", ["yes"]), ([("no", "yes")],),
     ((((),),),), nested(40), (nested(39),), TooGreat(),
 )
-OBJECTS = (EITHER, PAIRS, COAT)
+OBJECTS = (EITHER, PAIRS, COAT, MOST, LEAST)
+
+# Values that are no ascending tuple of one to three names.
+WRONG_DOMAINS = STRANGE + OBJECTS + (
+    (), ("no", "no"), ("yes", "no"), ("a", "b", "c", "d"), ("a", "c", "b"), ("a", "b", "b"), ("",),
+    ("ninechars",), ("A",), ("a1",), ("a b",), ("a\n",), ("no", True), ["no", "yes"], "no", ("no", ("yes",)),
+    ("no", EITHER), ("\u00e9",), ("\u0661",), ("a",) * 20000,
+)
 
 
 def state(thing):
     """All that an object of the package tells, to compare it before and after."""
-    if isinstance(thing, (Table, Book, Form)):
+    if isinstance(thing, (Table, Book, Form, Vote, Choice)):
         return (thing.__class__.__name__,) + tuple((name, state(part)) for name, part in sorted(vars(thing).items()))
     if isinstance(thing, (list, tuple)):
         return [thing.__class__.__name__] + [state(part) for part in thing]
@@ -48,20 +58,33 @@ def state(thing):
 class Checks:
     """Checks that several test cases use."""
 
-    def refused(self, error, word, call, *told, **named):
-        """The call raises this error with this word, and changes nothing."""
+    def fails(self, error, kept, call, *told, **named):
+        """The call raises this error with these attributes, and changes nothing."""
         before = state([told, named, STRANGE, OBJECTS])
         with self.assertRaises(error) as caught:
             call(*told, **named)
         self.assertIs(caught.exception.__class__, error)
-        self.assertEqual(caught.exception.word, word)
+        for name, thing in kept.items():
+            self.assertEqual(getattr(caught.exception, name), thing)
+            self.assertIs(getattr(caught.exception, name).__class__, thing.__class__)
         self.assertEqual(state([told, named, STRANGE, OBJECTS]), before)
+
+    def refused(self, error, word, call, *told, **named):
+        """The call raises this error with this word, and changes nothing."""
+        self.fails(error, {"word": word}, call, *told, **named)
 
     def refused_each(self, error, word, call, things):
         """The call raises this error with this word for each of the values."""
         for thing in things:
             with self.subTest(thing=repr(thing)[:60]):
                 self.refused(error, word, call, thing)
+
+    def unchanged(self, things, call, *told):
+        """What the call returns; it does not change these things."""
+        before = state(things)
+        found = call(*told)
+        self.assertEqual(state(things), before)
+        return found
 
     def not_equal_to_others(self, thing):
         """The object is equal to nothing of another kind, in either order."""

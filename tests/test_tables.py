@@ -6,7 +6,7 @@ from itertools import combinations, product
 from clashnumber.books import Book
 from clashnumber.errors import NoTable
 from clashnumber.tables import Table
-from samples import BITS, COAT, EITHER, NOTBOTH, OBJECTS, PAIRS, STRANGE, TRIT, Checks, state
+from samples import BITS, COAT, EITHER, NOTBOTH, OBJECTS, PAIRS, STRANGE, TRIT, WRONG_DOMAINS, Checks, state
 
 ONE = ("x",)
 LONG = ("abcdefgh", "z")
@@ -68,14 +68,9 @@ class MadeTests(Checks, unittest.TestCase):
         self.assertIs(Table(BITS, 2).is_full, False)
 
     def test_wrong_domains(self):
-        wrong = STRANGE + OBJECTS + (
-            (), ("no", "no"), ("yes", "no"), ("a", "b", "c", "d"), ("a", "c", "b"), ("a", "b", "b"), ("",),
-            ("ninechars",), ("A",), ("a1",), ("a b",), ("a\n",), ("no", True), ["no", "yes"], "no", ("no", ("yes",)),
-            ("no", EITHER), ("\u00e9",), ("\u0661",), ("a",) * 20000,
-        )
-        self.refused_each(NoTable, "domain", lambda thing: Table(thing, 1), wrong)
-        self.refused_each(NoTable, "domain", lambda thing: Table(domain=thing, width=1, rows=()), wrong)
-        self.refused_each(NoTable, "domain", lambda thing: Table(thing, thing, thing), wrong)
+        self.refused_each(NoTable, "domain", lambda thing: Table(thing, 1), WRONG_DOMAINS)
+        self.refused_each(NoTable, "domain", lambda thing: Table(domain=thing, width=1, rows=()), WRONG_DOMAINS)
+        self.refused_each(NoTable, "domain", lambda thing: Table(thing, thing, thing), WRONG_DOMAINS)
 
     def test_wrong_widths(self):
         wrong = STRANGE + OBJECTS + ("1", "2", (1,), (2,), [1], 10 ** 39 + 1)
