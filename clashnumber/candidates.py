@@ -4,19 +4,19 @@
 def candidates_left(form, answers):
     """For each field, in their order, the ascending tuple of the candidates that narrowing leaves."""
     left = first_candidates(form.fields, form.book.domain, answers)
-    rules_of = {field: [rule for rule in form.rules if field in rule[1]] for field in form.fields}
+    rules_of = {each: [other for other in form.rules if each in other[1]] for each in form.fields}
     waiting = list(form.rules)
-    is_waiting = {rule: True for rule in form.rules}
+    is_waiting = {each: True for each in form.rules}
     while len(waiting) > 0:
         rule = waiting.pop()
         is_waiting[rule] = False
         name, fields = rule
         for field, value in lost_candidates(fields, form.book[name].rows, left):
             left[field] = without(left[field], value)
-            more = [other for other in rules_of[field] if not is_waiting[other]]
+            more = [each for each in rules_of[field] if not is_waiting[each]]
             waiting.extend(more)
-            for other in more:
-                is_waiting[other] = True
+            for each in more:
+                is_waiting[each] = True
     return tuple([left[field] for field in form.fields])
 
 
