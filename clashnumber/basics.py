@@ -2,6 +2,7 @@
 
 from clashnumber.errors import InvalidText
 
+LETTERS = "abcdefghijklmnopqrstuvwxyz"
 LONGEST_NAME = 8
 MOST_VALUES = 3
 
@@ -62,12 +63,22 @@ def all_rows(columns):
     return tuple(rows)
 
 
-def nonempty_sets(values):
-    """All nonempty sets of these ascending values, as ascending tuples, those with fewer values first."""
+def sets_up_to(items, most):
+    """All sets of at most so many of these ascending items, as ascending tuples, those with fewer items first."""
     sets = [()]
-    for value in values:
-        sets = sets + [some + (value,) for some in sets]
-    return tuple(sorted(sets[1:], key=lambda some: (len(some), some)))
+    for item in items:
+        sets = sets + [some + (item,) for some in sets if len(some) < most]
+    return tuple(sorted(sets, key=lambda some: (len(some), some)))
+
+
+def nonempty_sets(items):
+    """All nonempty sets of these ascending items, as ascending tuples, those with fewer items first."""
+    return sets_up_to(items, len(items))[1:]
+
+
+def without(items, item):
+    """These items without the one."""
+    return tuple([other for other in items if other != item])
 
 
 def words_of(text):

@@ -1,5 +1,7 @@
 """Narrowing: the candidates that the rules of a form leave for its fields."""
 
+from clashnumber.basics import without
+
 
 def candidates_left(form, answers):
     """For each field, in their order, the ascending tuple of the candidates that narrowing leaves."""
@@ -33,8 +35,3 @@ def lost_candidates(fields, rows, left):
     return [
         (field, value) for field, column in zip(fields, columns) for value in left[field] if value not in column
     ]
-
-
-def without(values, value):
-    """These values without the one."""
-    return tuple([other for other in values if other != value])

@@ -1,5 +1,6 @@
 """Least clashes: answers that clash, but stand as soon as any one of them is left out."""
 
+from clashnumber.basics import without
 from clashnumber.errors import NoClash, TooGreat
 from clashnumber.forms import is_answers, is_filling
 from clashnumber.keeping import number_of
@@ -16,16 +17,30 @@ def least_clash(form, answers):
     found, proof = search.outcome(answers)
     if proof is None:
         raise NoClash(found)
+    least, filling_without = least_proof(search, answers, proof)
+    clash = least.nogood
+    return clash, tuple([filling_without[pair] for pair in clash]), derivation_of(form, least)
+
+
+def clash_among(form, answers):
+    """A least clash that the answers contain, or None if they stand; the form is not great."""
+    search = Search(form)
+    _, proof = search.outcome(answers)
+    return None if proof is None else least_proof(search, answers, proof)[0].nogood
+
+
+def least_proof(search, answers, proof):
+    """Of a proof that some of the answers clash, one of a least clash; and for each of its pairs a filling without."""
+    least = proof
     filling_without = {}
     for pair in answers:
-        if pair in proof.nogood:
-            found, smaller = search.outcome(lacking(proof.nogood, pair))
+        if pair in least.nogood:
+            found, smaller = search.outcome(without(least.nogood, pair))
             if smaller is None:
                 filling_without[pair] = found
             else:
-                proof = smaller
-    clash = proof.nogood
-    return clash, tuple([filling_without[pair] for pair in clash]), derivation_of(form, proof)
+                least = smaller
+    return least, filling_without
 
 
 def least_clash_holds(form, thing):
@@ -35,7 +50,7 @@ def least_clash_holds(form, thing):
     clash, found, derivation = thing
     if not is_answers(form, clash) or not isinstance(found, tuple) or len(found) != len(clash):
         return False
-    if not all([is_filling_with(form, filling, lacking(clash, pair)) for pair, filling in zip(clash, found)]):
+    if not all([is_filling_with(form, filling, without(clash, pair)) for pair, filling in zip(clash, found)]):
         return False
     return derivation_holds(form, clash, derivation)
 
@@ -43,11 +58,6 @@ def least_clash_holds(form, thing):
 def is_filling_with(form, thing, answers):
     """Whether a value is a filling of the form that has the answers."""
     return is_filling(form, thing) and all([thing[form.fields.index(field)] == value for field, value in answers])
-
-
-def lacking(answers, pair):
-    """The answers without one pair."""
-    return tuple([other for other in answers if other != pair])
 
 
 def least_clashes(form):
@@ -78,4 +88,4 @@ def longer_answers(form, stand):
         if answers == () or answers[-1][0] < field
         for value in form.book.domain
     ]
-    return [answers for answers in longer if all([lacking(answers, pair) in stand for pair in answers])]
+    return [answers for answers in longer if all([without(answers, pair) in stand for pair in answers])]

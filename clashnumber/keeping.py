@@ -4,48 +4,47 @@ The form has a field for each argument, and rules for rows of a table whose vote
 such rules are put into it as some vote, or choice, was found to break: few of all rules are needed.
 """
 
-from clashnumber.basics import all_rows, ascending, nonempty_sets
+from clashnumber.basics import LETTERS, all_rows, ascending, nonempty_sets
 from clashnumber.forms import Form
 from clashnumber.operations import Choice, Vote, winner
 from clashnumber.searches import Search
 
-LETTERS = "abcdefghijklmnopqrstuvwxyz"
-
 
 def vote_keeping(book, count):
     """A vote of count that keeps the book and None, or None and a proof that there is none."""
-    arguments = all_rows([book.domain] * count)
-    return operation_keeping(
-        book, arguments, winner, lambda results: Vote(book.domain, count, results), lambda column: column
-    )
+    name_of = names_of(all_rows([book.domain] * count))
+    answers = [(name, winner(some)) for some, name in name_of.items() if winner(some) is not None]
+    rules = []
+    while True:
+        results, proof = results_by(book, name_of, rules, answers)
+        if proof is not None:
+            return None, proof
+        vote = Vote(book.domain, count, results)
+        broken = broken_by(vote, book)
+        if broken == []:
+            return vote, None
+        rules.extend([(name, tuple([name_of[column] for column in zip(*rows)])) for name, rows in broken])
 
 
 def choice_keeping(book):
     """A choice that keeps the book and None, or None and a proof that there is none."""
-    return operation_keeping(
-        book, nonempty_sets(book.domain), only_item, lambda results: Choice(book.domain, results), ascending
-    )
-
-
-def operation_keeping(book, arguments, told, make, argument_at):
-    """A vote or a choice, made of its results for these arguments, and None, or None and a proof that there is none."""
-    name_of = names_of(arguments)
-    answers = [(name_of[some], told(some)) for some in arguments if told(some) is not None]
+    name_of = names_of(nonempty_sets(book.domain))
+    answers = [(name, some[0]) for some, name in name_of.items() if len(some) == 1]
     rules = []
     while True:
-        results, proof = Search(Form(book, tuple(name_of.values()), *rules)).outcome(answers)
+        results, proof = results_by(book, name_of, rules, answers)
         if proof is not None:
             return None, proof
-        operation = make(results)
-        broken = broken_by(operation, book)
+        choice = Choice(book.domain, results)
+        broken = broken_by(choice, book)
         if broken == []:
-            return operation, None
-        rules.extend([(name, tuple([name_of[argument_at(column)] for column in zip(*rows)])) for name, rows in broken])
+            return choice, None
+        rules.extend([(name, tuple([name_of[ascending(column)] for column in zip(*rows)])) for name, rows in broken])
 
 
-def only_item(some):
-    """The item of a tuple of one, otherwise None."""
-    return some[0] if len(some) == 1 else None
+def results_by(book, name_of, rules, answers):
+    """The results that these rules and answers leave for the arguments, and None, or None and a proof."""
+    return Search(Form(book, tuple(name_of.values()), *rules)).outcome(answers)
 
 
 def broken_by(operation, book):

@@ -1,10 +1,10 @@
 """The clash number of a book: how many answers a contradiction takes, and what shows it."""
 
-from clashnumber.basics import all_rows, ascending, is_integer
+from clashnumber.basics import all_rows, is_integer
 from clashnumber.errors import NoBound
 from clashnumber.forms import Form, is_answers, is_filling
 from clashnumber.keeping import names_of, number_of, vote_keeping
-from clashnumber.proofs import derivation_of, rules_of_proof
+from clashnumber.proofs import derivation_of, form_of
 from clashnumber.standing import derivation_holds
 
 MOST_BOUND = 3
@@ -13,8 +13,7 @@ PLACES = ("a", "b", "c")
 
 def examine(book, most):
     """("at most", a vote or None) if the clash number is at most this, otherwise ("more", a worst form)."""
-    if not is_bound(book, most):
-        raise NoBound(most)
+    check_bound(book, most)
     if most > 1:
         vote, proof = vote_keeping(book, most + 1)
         if proof is None:
@@ -29,19 +28,18 @@ def clash_number(book):
     return number_of(book)
 
 
-def is_bound(book, thing):
-    """Whether a value is a number that the clash number of the book can be compared with."""
-    return is_integer(thing) and 0 <= thing <= MOST_BOUND and (thing < MOST_BOUND or len(book.domain) < 3)
+def check_bound(book, thing):
+    """Raise an error if a value is no number that the clash number of the book can be compared with."""
+    if not is_integer(thing) or not 0 <= thing <= MOST_BOUND or (thing == MOST_BOUND and len(book.domain) > 2):
+        raise NoBound(thing)
 
 
 def worst_without_vote(book, most, proof):
     """The worst form that a proof makes which shows that no vote of one more keeps the book."""
     arguments = all_rows([book.domain] * (most + 1))
     argument_of = {field: some for some, field in names_of(arguments).items()}
-    rules = rules_of_proof(proof)
-    fields = ascending([field for _, places in rules for field in places])
-    form = Form(book, fields, *rules)
-    found = [tuple([argument_of[field][place] for field in fields]) for place in range(most + 1)]
+    form = form_of(book, proof)
+    found = [tuple([argument_of[field][place] for field in form.fields]) for place in range(most + 1)]
     return form, proof.nogood, tuple(found), derivation_of(form, proof)
 
 

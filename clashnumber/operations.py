@@ -55,6 +55,8 @@ class Vote:
 
     def broken(self, table):
         """None, or rows of the table and the row of their votes, which the table does not have."""
+        if table.is_full:
+            return None
         has_row = {row: True for row in table.rows}
         for rows in all_rows([table.rows] * self.count):
             row = tuple([self.result_of[column] for column in zip(*rows)])

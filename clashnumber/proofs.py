@@ -1,6 +1,7 @@
 """Proofs that no filling of a form has some pairs, and the derivations that they make."""
 
 from clashnumber.basics import ascending
+from clashnumber.forms import Form
 
 
 class Proof:
@@ -38,9 +39,10 @@ def reason_of(step, index_of, number_of):
     return ("field", step.field, tuple([number_of[part.nogood] for part in step.parts]))
 
 
-def rules_of_proof(proof):
-    """The rules that the derivation needs which the proof makes."""
-    return ascending([step.rule for step in steps_of(proof) if step.rule is not None])
+def form_of(book, proof):
+    """The form with the rules that the derivation needs which the proof makes, and with their fields."""
+    rules = ascending([step.rule for step in steps_of(proof) if step.rule is not None])
+    return Form(book, ascending([field for _, places in rules for field in places]), *rules)
 
 
 def steps_of(proof):

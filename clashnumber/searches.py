@@ -1,12 +1,12 @@
 """The search for fillings, which keeps a proof for each candidate that it removes."""
 
-from clashnumber.basics import ascending
-from clashnumber.candidates import first_candidates, lost_candidates, without
+from clashnumber.basics import ascending, without
+from clashnumber.candidates import first_candidates, lost_candidates
 from clashnumber.proofs import Proof, goes_with, proof_by_field
 
 
 class Search:
-    """A form, made ready for searches for fillings that have some answers."""
+    """A form, made ready for searches for fillings that have some answers. A search changes nothing."""
 
     def __init__(self, form):
         self.domain = form.book.domain
@@ -25,7 +25,7 @@ class Search:
         """As outcome, for known values, the candidates left, proofs for the others, and the checks to begin with."""
         waiting = changed
         while True:
-            proof = self.narrow(known, left, proof_of, waiting)
+            left, proof_of, proof = self.narrow(known, left, proof_of, waiting)
             if proof is not None:
                 return None, proof
             field = self.open_field(left)
@@ -33,12 +33,12 @@ class Search:
                 return tuple([left[each][0] for each in self.fields]), None
             value = left[field][0]
             waiting = self.checks_of[field]
-            filling, proof = self.explored({**known, field: value}, {**left, field: (value,)}, dict(proof_of), waiting)
+            filling, proof = self.explored({**known, field: value}, {**left, field: (value,)}, proof_of, waiting)
             # A proof that does not need the field holds for its other values, too.
             if filling is not None or field not in proof.pairs:
                 return filling, proof
-            proof_of[field, value] = proof
-            left[field] = without(left[field], value)
+            proof_of = {**proof_of, (field, value): proof}
+            left = {**left, field: without(left[field], value)}
 
     def open_field(self, left):
         """The field with the fewest candidates of those that have several, or None."""
@@ -46,26 +46,31 @@ class Search:
         return min(several)[2] if len(several) > 0 else None
 
     def narrow(self, known, left, proof_of, changed):
-        """Remove candidates by these checks and those that this concerns; return a proof if a field has none left."""
+        """The candidates that these checks, and those that this concerns, leave, with proofs for the others.
+
+        The third is None, or a proof if some field has no candidate left.
+        """
+        now = {field: left[field] for field in left}
+        proofs = {pair: proof_of[pair] for pair in proof_of}
         waiting = list(changed)
         is_waiting = {at: True for at in waiting}
         while len(waiting) > 0:
             at = waiting.pop()
             is_waiting[at] = False
             _, fields, rows = self.checks[at]
-            for field, value in lost_candidates(fields, rows, left):
-                proof = self.proof_by_rows(at, pairs_at(field, value, fields, known), proof_of)
+            for field, value in lost_candidates(fields, rows, now):
+                proof = self.proof_by_rows(at, pairs_at(field, value, fields, known), proofs)
                 if field in known:
-                    return proof
-                proof_of[field, value] = proof
-                left[field] = without(left[field], value)
-                if left[field] == ():
-                    return proof_by_field(field, [proof_of[field, each] for each in self.domain])
+                    return now, proofs, proof
+                proofs[field, value] = proof
+                now[field] = without(now[field], value)
+                if now[field] == ():
+                    return now, proofs, proof_by_field(field, [proofs[field, each] for each in self.domain])
                 more = [other for other in self.checks_of[field] if not is_waiting.get(other, False)]
                 waiting.extend(more)
                 for other in more:
                     is_waiting[other] = True
-        return None
+        return now, proofs, None
 
     def proof_by_rows(self, at, pairs, proof_of):
         """A proof that no row of a check goes with the pairs, if removed candidates are left out."""

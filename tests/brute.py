@@ -153,8 +153,17 @@ def choice_keeps(domain, results, book):
     return True
 
 
+TRIED = {}
+
+
 def number_tried(book):
-    """The clash number of a book, or None: point 10."""
+    """The clash number of a book, or None: point 10. Each book is tried once."""
+    if book.text not in TRIED:
+        TRIED[book.text] = number_found(book)
+    return TRIED[book.text]
+
+
+def number_found(book):
     tables = [book[name] for name in book]
     if all(len(table) in (0, len(book.domain) ** table.width) for table in tables):
         return 0
@@ -182,6 +191,91 @@ def narrowed_tried(form, answers):
                         left[field].discard(value)
                         changed = True
     return tuple(tuple(sorted(left[field])) for field in form.fields)
+
+
+def is_at_most(book, most):
+    """Whether the clash number of a book is at most this; for at most 2, or two values: points 10 and 3."""
+    number = number_tried(book)
+    return number is not None and number <= most
+
+
+def greatest_tried(sets, is_right):
+    """Point 20: those of the sets that are right, if no right one contains them."""
+    right = [some for some in sets if is_right(some)]
+    return tuple(sorted(some for some in right if not any(set(some) < set(other) for other in right)))
+
+
+def standing_rows(form, *fields):
+    """The rows of values of some shown fields that are answers that stand."""
+    places = [form.fields.index(field) for field in fields]
+    return tuple(sorted({tuple(some[place] for place in places) for some in all_fillings(form)}))
+
+
+def shown_rows(form):
+    """All that the shown fields can have together: two forms are alike exactly if this is equal."""
+    return standing_rows(form, *form.shown)
+
+
+def voted(vote, rows):
+    """The row of the votes, told by the results of the vote alone."""
+    votes = dict(zip(product(vote.domain, repeat=vote.count), vote.results))
+    return tuple(votes[column] for column in zip(*rows))
+
+
+def closure_tried(vote, table):
+    """Point 12, by adding what is missing until nothing is."""
+    votes = dict(zip(product(vote.domain, repeat=vote.count), vote.results))
+    rows = set(table.rows)
+    while True:
+        more = {tuple(votes[column] for column in zip(*some)) for some in product(sorted(rows), repeat=vote.count)}
+        if more <= rows:
+            return Table(table.domain, table.width, tuple(rows))
+        rows |= more
+
+
+def is_closing(vote, table, closure, thing):
+    """Point 12, for the closure of the table."""
+    if not is_tuple(thing, 2) or type(thing[0]) is not Table or not is_tuple(thing[1]) or thing[0] != closure:
+        return False
+    known = list(table.rows)
+    for step in thing[1]:
+        if not is_tuple(step, 2) or not is_tuple(step[0], table.width) or not is_tuple(step[1], vote.count):
+            return False
+        if step[0] in known or not all(is_tuple(row) and row in known for row in step[1]):
+            return False
+        if step[0] != voted(vote, step[1]):
+            return False
+        known.append(step[0])
+    return sorted(known) == list(closure.rows)
+
+
+def is_blind(book, thing):
+    """Point 14."""
+    if not is_tuple(thing, 3) or type(thing[0]) is not Form or thing[0].book != book:
+        return False
+    form, answers, derivation = thing
+    if not are_pairs_of(form.shown, book.domain, answers):
+        return False
+    return () not in narrowed_tried(form, answers) and is_derivation(form, answers, derivation)
+
+
+def tree(form, answers):
+    """A derivation that tries all values of all fields, for a form without fillings that have the answers."""
+    steps = []
+
+    def add(pairs, fields):
+        nogood = tuple(sorted(pairs.items()))
+        for index, (name, places) in enumerate(form.rules):
+            if all(field in pairs for field in places):
+                if tuple(pairs[field] for field in places) not in form.book[name]:
+                    steps.append((nogood, ("rule", index)))
+                    return len(steps) - 1
+        numbers = tuple(add({**pairs, fields[0]: value}, fields[1:]) for value in form.book.domain)
+        steps.append((nogood, ("field", fields[0], numbers)))
+        return len(steps) - 1
+
+    add(dict(answers), tuple(field for field in form.fields if field not in dict(answers)))
+    return tuple(steps)
 
 
 def is_tuple(thing, size=None):

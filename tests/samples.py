@@ -1,9 +1,11 @@
 """What the tests share: the examples of the document, values of wrong kinds, and checks of errors."""
 
 from clashnumber.books import Book
+from clashnumber.desks import Desk
 from clashnumber.errors import TooGreat
 from clashnumber.forms import Form
 from clashnumber.operations import Choice, Vote
+from clashnumber.shorts import Short
 from clashnumber.tables import Table
 
 BITS = ("no", "yes")
@@ -34,7 +36,7 @@ STRANGE = (
     ((), ()), (None,), (True,), (0,), (1, 2), ("",), ([],), ({},), ("no", ["yes"]), ([("no", "yes")],),
     ((((),),),), nested(40), (nested(39),), TooGreat(),
 )
-OBJECTS = (EITHER, PAIRS, COAT, MOST, LEAST)
+OBJECTS = (EITHER, PAIRS, COAT, MOST, LEAST, Short(COAT), Desk(COAT))
 
 # Values that are no ascending tuple of one to three names.
 WRONG_DOMAINS = STRANGE + OBJECTS + (
@@ -46,7 +48,7 @@ WRONG_DOMAINS = STRANGE + OBJECTS + (
 
 def state(thing):
     """All that an object of the package tells, to compare it before and after."""
-    if isinstance(thing, (Table, Book, Form, Vote, Choice)):
+    if isinstance(thing, (Table, Book, Form, Vote, Choice, Short, Desk)):
         return (thing.__class__.__name__,) + tuple((name, state(part)) for name, part in sorted(vars(thing).items()))
     if isinstance(thing, (list, tuple)):
         return [thing.__class__.__name__] + [state(part) for part in thing]

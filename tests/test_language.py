@@ -46,6 +46,8 @@ BARRED_WORDS = re.compile(
     r"|NamedTuple|TypedDict|TYPE_CHECKING|abstractmethod)\b|dataclass|overload|contextmanager|_wall|_WallAttr|\(type\)"
     r"|Meta|metaclass="
 )
+CHANGES = set("append extend insert pop remove clear reverse setdefault update add discard sort".split())
+MAKES = ("list", "dict", "set", "sorted")
 AT_ONCE = ("list", "tuple", "dict", "sorted", "sum", "any", "all", "enumerate", "zip", "min", "max", "len")
 
 
@@ -54,12 +56,49 @@ def word(node):
     return getattr(node.func, "id", None) or getattr(node.func, "attr", None)
 
 
+def is_setter(function):
+    return any(isinstance(one, ast.Attribute) for one in function.decorator_list)
+
+
 def bound_names(function):
     """The parameters and local variables of a function, those of comprehensions too."""
     some = function.args
     more = [one for one in (some.vararg, some.kwarg) if one]
     names = [one.arg for one in some.posonlyargs + some.args + some.kwonlyargs + more]
     return names + [node.id for node in ast.walk(function) if isinstance(node, ast.Name) and isinstance(node.ctx, ast.Store)]
+
+
+def has_decorator(function, name):
+    return any(getattr(one, "id", "") == name for one in function.decorator_list)
+
+
+def parameters(function):
+    some = function.args
+    return {one.arg for one in some.posonlyargs + some.args + some.kwonlyargs + [some.vararg, some.kwarg] if one}
+
+
+def is_new(value, classes):
+    """Whether an expression surely makes a list, a dict, a set or an own object that nobody else has."""
+    if isinstance(value, (ast.List, ast.Dict, ast.ListComp, ast.DictComp)):
+        return True
+    if isinstance(value, ast.BinOp) and isinstance(value.op, (ast.Mult, ast.Add)):
+        return is_new(value.left, classes) or is_new(value.right, classes)
+    return isinstance(value, ast.Call) and getattr(value.func, "id", "") in MAKES + classes
+
+
+def new_locals(function, classes):
+    """The local variables that are only ever assigned what is new."""
+    made, other = set(), set(parameters(function))
+    for node in ast.walk(function):
+        if isinstance(node, (ast.Assign, ast.AugAssign)):
+            for target in node.targets if isinstance(node, ast.Assign) else [node.target]:
+                if isinstance(target, ast.Name):
+                    (made if is_new(node.value, classes) else other).add(target.id)
+                elif isinstance(target, ast.Tuple):
+                    other |= {part.id for part in target.elts if isinstance(part, ast.Name)}
+        if isinstance(node, (ast.For, ast.comprehension)):
+            other |= {part.id for part in ast.walk(node.target) if isinstance(part, ast.Name)}
+    return made - other
 
 
 class LanguageTests(unittest.TestCase):
@@ -149,10 +188,58 @@ class LanguageTests(unittest.TestCase):
         for node in self.classes:
             self.assertIsInstance(node.parent, ast.Module)
             self.assertEqual([node.decorator_list, node.keywords], [[], []])
-            methods = [part.name for part in node.body if isinstance(part, ast.FunctionDef)]
+            methods = [part.name for part in node.body if isinstance(part, ast.FunctionDef) and not is_setter(part)]
             self.assertEqual(len(methods), len(set(methods)), node.name)
             if "__getitem__" in methods:
                 self.assertIn("__iter__", methods)
+
+    def called_by(self, function):
+        """All functions and methods of the package that a call in the function can mean."""
+        found = []
+        for node in ast.walk(function):
+            if isinstance(node, ast.Call) and isinstance(node.func, ast.Name):
+                found.extend(part for part in self.functions
+                             if part.name == node.func.id and isinstance(part.parent, ast.Module))
+                found.extend(part for one in self.classes if one.name == node.func.id for part in one.body
+                             if getattr(part, "name", "") == "__init__")
+            elif isinstance(node, ast.Call):
+                found.extend(part for part in self.functions
+                             if part.name == node.func.attr and isinstance(part.parent, ast.ClassDef))
+        return found
+
+    def test_l5_what_operators_and_properties_run(self):
+        apart = ("__init__", "__setitem__", "__call__", "__enter__", "__exit__")
+        run = [node for node in self.functions if isinstance(node.parent, ast.ClassDef) and (
+            node.name.startswith("__") and node.name not in apart or has_decorator(node, "property"))]
+        self.assertGreater(len(run), 20)
+        for node in run:
+            run.extend(part for part in self.called_by(node) if part not in run)
+        names = {node.name for node in run}
+        self.assertTrue({"settled_pairs", "tables_joined", "outcome", "narrow", "number_of"} <= names)
+        classes = tuple(node.name for node in self.classes)
+        methods = {node.name for node in self.functions if isinstance(node.parent, ast.ClassDef)}
+        for function in run:
+            made = new_locals(function, classes) | ({"self"} if function.name == "__init__" else set())
+            for node in ast.walk(function):
+                changed = None
+                if isinstance(node, (ast.Subscript, ast.Attribute)) and not isinstance(node.ctx, ast.Load):
+                    changed = node.value
+                elif isinstance(node, ast.Call) and getattr(node.func, "attr", "") in CHANGES:
+                    changed = node.func.value
+                if changed is not None:
+                    self.assertIsInstance(changed, ast.Name, (function.name, node.lineno))
+                    self.assertIn(changed.id, made, (function.name, node.lineno))
+                if isinstance(node, ast.Call) and isinstance(node.func, ast.Name):
+                    self.assertNotIn(node.func.id, bound_names(function), (function.name, node.lineno))
+                elif isinstance(node, ast.Call):
+                    self.assertIn(node.func.attr, METHODS | methods, (function.name, node.lineno))
+
+    def test_l5_properties(self):
+        found = {node.name for node in self.functions if has_decorator(node, "property")}
+        self.assertEqual(found, {"form", "answers", "settled", "bound"})
+        plain = {node.name for node in self.functions if isinstance(node.parent, ast.ClassDef)
+                 and not has_decorator(node, "property") and not is_setter(node)}
+        self.assertFalse(found & (plain | METHODS))
 
     def test_l6_l7_statements_and_expressions(self):
         for node, place in self.each(ast.stmt):
@@ -203,7 +290,7 @@ class LanguageTests(unittest.TestCase):
         methods = {node.name for node in self.functions if isinstance(node.parent, ast.ClassDef)}
         self.assertFalse(stored & BARRED_ATTRIBUTES)
         for node, place in self.each(ast.Attribute):
-            self.assertIn(node.attr, stored | methods | METHODS, place)
+            self.assertIn(node.attr, stored | methods | METHODS | {"setter"}, place)
             if isinstance(node.ctx, ast.Store):
                 self.assertIsInstance(node.value, ast.Name, place)
         for node in self.classes:

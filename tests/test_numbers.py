@@ -6,7 +6,7 @@ from itertools import product
 
 from brute import (
     BELOW, BOOKS, COLOURS, HORN, HORNS, NEXT, NOTALL, ODDS, ORDER, PARITY, SOME, TRIO, UNLIKE, all_least_clashes, all_votes,
-    is_worst, number_tried, put_otherwise, some_book, some_form, vote_keeps,
+    is_worst, number_tried, put_otherwise, some_book, some_form, tree, vote_keeps,
 )
 from clashnumber.books import Book
 from clashnumber.clashes import least_clash
@@ -16,7 +16,6 @@ from clashnumber.numbers import clash_number, examine, worst_holds
 from clashnumber.operations import Vote
 from clashnumber.tables import Table
 from samples import BITS, COAT, EITHER, MOST, NOTBOTH, OBJECTS, PAIRS, STRANGE, THIRTY, TRIT, Checks, nested, state
-from test_standing import tree
 
 DUO = Form(PAIRS, ("x", "y"), ("either", ("x", "y")))
 CLASH = (("x", "no"), ("y", "no"))

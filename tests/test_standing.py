@@ -6,7 +6,7 @@ from itertools import product
 
 from brute import (
     BELOW, BOOKS, COLOURS, HORNS, NEXT, NOTALL, ODDS, PARITY, SOME, TRIO, all_answers, all_choices, all_fillings, choice_keeps,
-    having, is_derivation, narrowed_tried, number_tried, put_otherwise, some_forms,
+    having, is_derivation, narrowed_tried, number_tried, put_otherwise, some_forms, tree,
 )
 from clashnumber.books import Book
 from clashnumber.errors import TooGreat
@@ -23,25 +23,6 @@ IS = Table(BITS, 1, (("yes",),))
 NEVER = Table(BITS, 2)
 MIXED = Book(BITS, (("either", EITHER), ("is", IS), ("never", NEVER), ("odd", PARITY)))
 TWICE = Form(MIXED, ("a", "b"), ("odd", ("a", "b", "b")), ("either", ("b", "b")))
-
-
-def tree(form, answers):
-    """A derivation that tries all values of all fields, for a form without fillings that have the answers."""
-    steps = []
-
-    def add(pairs, fields):
-        nogood = tuple(sorted(pairs.items()))
-        for index, (name, places) in enumerate(form.rules):
-            if all(field in pairs for field in places):
-                if tuple(pairs[field] for field in places) not in form.book[name]:
-                    steps.append((nogood, ("rule", index)))
-                    return len(steps) - 1
-        numbers = tuple(add({**pairs, fields[0]: value}, fields[1:]) for value in form.book.domain)
-        steps.append((nogood, ("field", fields[0], numbers)))
-        return len(steps) - 1
-
-    add(dict(answers), tuple(field for field in form.fields if field not in dict(answers)))
-    return tuple(steps)
 
 
 def chain(book, name, many):
