@@ -22,13 +22,13 @@ def derived_table(form, *fields):
 def written_out(form, name, part, *fields):
     """The form over the book of the part in which the rules of a derived table are replaced by those of the part."""
     others = [field for field in part.fields if field not in fields]
-    replaced = [places for table, places in form.rules if table == name]
-    count = len(others) * len(replaced)
+    uses = [places for table, places in form.rules if table == name]
+    count = len(others) * len(uses)
     if len(form.fields) + count > MOST_FIELDS:
         raise NoForm("fields")
     names = new_names(form.fields, count)
     rules = [rule for rule in form.rules if rule[0] != name]
-    for at, places in enumerate(replaced):
+    for at, places in enumerate(uses):
         own = names[at * len(others):]
         name_of = {**dict(zip(others, own)), **dict(zip(fields, places))}
         rules.extend([(table, tuple([name_of[field] for field in row])) for table, row in part.rules])

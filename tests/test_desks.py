@@ -2,7 +2,6 @@
 
 import random
 import unittest
-from itertools import product
 
 from brute import (
     BELOW, BOOKS, COLOURS, HORN, HORNS, NEXT, NOTALL, ODDS, PARITY, SOME, TRIO, UNLIKE, all_answers, all_fillings,
@@ -135,7 +134,9 @@ class Model:
 
     def add_field(self, field, *, hidden=False):
         form = self.form
-        if type(field) is not str or not field.isalpha() or field.lower() != field or len(field) > 8 or field in form.fields:
+        if type(field) is not str or not field.isalpha() or field.lower() != field or len(field) > 8:
+            return (NoForm, lambda error: error.word == "fields"), None
+        if field in form.fields:
             return (NoForm, lambda error: error.word == "fields"), None
         more = (field,) if hidden else ()
         return self.changed(None, Form(form.book, form.fields + (field,), *form.rules, hidden=form.hidden + more))
@@ -273,9 +274,10 @@ class MadeTests(DeskChecks, unittest.TestCase):
             Desk(COAT, (), 2)
 
     def test_edges(self):
-        for form in (Form(PAIRS, ()), Form(Book(("x",)), ("a", "b")), Form(PAIRS, ("h",), hidden=("h",)), Form(Book(BITS), ("a",))):
+        lone = Form(Book(("x",)), ("a", "b"))
+        for form in (Form(PAIRS, ()), lone, Form(PAIRS, ("h",), hidden=("h",)), Form(Book(BITS), ("a",))):
             self.check(Desk(form), form, (), None)
-        self.assertEqual(Desk(Form(Book(("x",)), ("a", "b")), (("a", "x"),)).settled, (("b", "x"),))
+        self.assertEqual(Desk(lone, (("a", "x"),)).settled, (("b", "x"),))
         whole = (("a", "yes"), ("c", "no"))
         self.check(Desk(COAT, whole), COAT, whole, None)
         self.assertEqual(Desk(COAT, whole).settled, ())
@@ -509,8 +511,10 @@ class RuleTests(DeskChecks, unittest.TestCase):
 
     def test_wrong_rules(self):
         desk = Desk(COAT, (("a", "no"),))
-        for thing in ANY + (("either", ("a",)), ("either", ("a", "x")), ("none", ("a", "b")), ("either", ["a", "b"]), ["either", ("a", "b")]):
-            for rules in ((thing,), (COAT.rules[0], thing), (thing, ("either", ("a", "c"))), (("either", ("a", "c")), thing)):
+        right = ("either", ("a", "c"))
+        wrong = (("either", ("a",)), ("either", ("a", "x")), ("none", ("a", "b")), ("either", ["a", "b"]), list(right))
+        for thing in ANY + wrong:
+            for rules in ((thing,), (COAT.rules[0], thing), (thing, right), (right, thing)):
                 self.refused(NoForm, "rule", desk.add_rules, *rules)
                 self.refused(NoForm, "rule", desk.drop_rules, *rules)
         self.refused(NoForm, "rule", desk.drop_rules, ("either", ("a", "c")))
@@ -721,15 +725,15 @@ class SequenceTests(DeskChecks, unittest.TestCase):
             some = (name, tuple(source.choice(names) for _ in range(width)))
             rules.append(source.choice(self.WRONG) if source.random() < 0.1 else some)
         drops = list(form.rules)[:source.randint(0, 2)] if source.random() < 0.7 else rules
-        table = source.choice(self.WRONG) if wrong else some_book(source, form.book.domain).tables[:1] or ((0, IS),)
-        table = table[0][1] if type(table) is tuple and table and type(table[0]) is tuple else table
+        tables = [table for _, table in some_book(source, form.book.domain).tables]
+        table = source.choice(self.WRONG) if wrong or not tables else tables[0]
         new = source.choice(("d", "e", "h", "one", "two") + self.WRONG)
         return source.choice((
             ("answer", field, value), ("answer", field, value), ("take_back", field), ("take_back",),
             ("trial", (field, value), (source.choice(names), source.choice(form.book.domain))),
             ("add_rules", *rules), ("drop_rules", *drops), ("add_field", new), ("drop_field", field),
-            ("hide", field), ("show", field), ("add_table", new, table), ("drop_table", source.choice(form.book.names + (new,))),
-            ("set_bound", source.choice((None, None, 0, 1, 2, 3, 3, new))),
+            ("hide", field), ("show", field), ("add_table", new, table), ("set_bound", source.choice((None, 0, 1, 2, 3, new))),
+            ("drop_table", source.choice(form.book.names + (new,))),
         ))
 
     def test_any_sequence(self):
@@ -789,7 +793,8 @@ class SequenceTests(DeskChecks, unittest.TestCase):
             (Clash, desk.trial, ("a", "yes"), ("c", "yes"), ("a", "no")), (Clash, desk.add_rules, ("either", ("a", "c"))),
             (NoForm, desk.add_rules, ("either", ("a", "b")), 1), (NoForm, desk.drop_rules, COAT.rules[0], 1),
             (NoForm, desk.add_field, "a"), (InUse, desk.drop_field, "a"), (InUse, desk.hide, "a"), (NoField, desk.show, "a"),
-            (MoreThan, desk.add_table, "odd", PARITY), (NoBook, desk.add_table, "either", EITHER), (InUse, desk.drop_table, "either"),
+            (MoreThan, desk.add_table, "odd", PARITY), (NoBook, desk.add_table, "either", EITHER),
+            (InUse, desk.drop_table, "either"),
         )
         for error, call, *told in calls:
             before = state(desk)
@@ -863,7 +868,8 @@ class LimitTests(DeskChecks, unittest.TestCase):
         desk.add_rules(*rules)
         self.assertEqual(desk.settled, tuple((field, ("no", "no", "yes")[at % 3]) for at, field in enumerate(THIRTY[:13]))[2:])
         self.assertEqual(desk.why_not(THIRTY[12], "yes"), ((THIRTY[0], "no"), (THIRTY[12], "yes")))
-        colours = Form(COLOURS, THIRTY[:8], *[("unlike", (THIRTY[a], THIRTY[b])) for a, b in product(range(8), repeat=2) if a - b in (1, 2)])
+        pairs = list(zip(THIRTY[:8], THIRTY[1:8])) + list(zip(THIRTY[:8], THIRTY[2:8]))
+        colours = Form(COLOURS, THIRTY[:8], *[("unlike", pair) for pair in pairs])
         desk = Desk(colours, ((THIRTY[0], "a"), (THIRTY[1], "b")))
         self.assertEqual(len(desk.settled), 6)
         self.assertIs(number_tried(COLOURS), None)

@@ -6,7 +6,7 @@ from itertools import combinations, permutations, product
 
 from brute import (
     BELOW, BOOKS, COLOURS, HORN, NEXT, NOTALL, ODDS, ORDER, PARITY, SOME, TRIO, all_choices, all_sets, all_votes,
-    choice_keeps, closure_tried, greatest_tried, is_at_most, is_closing, number_tried, put_otherwise, shown_rows, some_book,
+    choice_keeps, closure_tried, greatest_tried, is_at_most, is_closing, put_otherwise, shown_rows, some_book,
     some_form, some_forms, standing_rows, vote_keeps, voted,
 )
 from clashnumber.books import Book
@@ -18,7 +18,7 @@ from clashnumber.operations import Vote
 from clashnumber.shorts import Short
 from clashnumber.standing import standing
 from clashnumber.tables import Table
-from samples import BITS, COAT, EITHER, MOST, NOTBOTH, OBJECTS, PAIRS, STRANGE, THIRTY, TRIT, Checks, nested, state
+from samples import BITS, COAT, EITHER, MOST, OBJECTS, PAIRS, STRANGE, THIRTY, TRIT, Checks, nested, state
 
 EVEN = Table(BITS, 2, (("no", "yes"), ("yes", "no")))
 MOST4 = Vote(BITS, 4, tuple("yes" if some.count("yes") > 1 else "no" for some in product(BITS, repeat=4)))
@@ -183,7 +183,8 @@ class WrittenTests(Checks, unittest.TestCase):
     def test_no_rule_of_the_table(self):
         book = PAIRS.with_table("coat", derived_table(COAT, "a", "c"))
         form = Form(book, ("x", "y"), ("either", ("x", "y")), hidden=("x",))
-        self.assertEqual(self.check(form, "coat", COAT, "a", "c"), Form(PAIRS, ("x", "y"), ("either", ("x", "y")), hidden=("x",)))
+        same = Form(PAIRS, ("x", "y"), ("either", ("x", "y")), hidden=("x",))
+        self.assertEqual(self.check(form, "coat", COAT, "a", "c"), same)
         self.assertEqual(self.check(Form(book, ()), "coat", COAT, "a", "c"), Form(PAIRS, ()))
 
     def test_fields_without_rules(self):
@@ -222,10 +223,12 @@ class WrittenTests(Checks, unittest.TestCase):
         triples = [("table", some) for some in combinations(THIRTY[:16], 3)]
         self.assertEqual(len(self.check(Form(wide, THIRTY[:16], triples[0]), "table", whole, "fa", "fb", "fc").fields), 29)
         for many in (2, 60):
-            self.refused(NoForm, "fields", written_out, Form(wide, THIRTY[:16], *triples[:many]), "table", whole, "fa", "fb", "fc")
+            form = Form(wide, THIRTY[:16], *triples[:many])
+            self.refused(NoForm, "fields", written_out, form, "table", whole, "fa", "fb", "fc")
         long = whole.with_rules(*[("either", pair) for pair in zip(THIRTY[3:16], THIRTY[4:16])])
         wide = PAIRS.with_table("table", derived_table(long, "fa", "fb", "fc"))
-        self.refused(NoForm, "fields", written_out, Form(wide, THIRTY[:16], *triples[:60]), "table", long, "fa", "fb", "fc")
+        form = Form(wide, THIRTY[:16], *triples[:60])
+        self.refused(NoForm, "fields", written_out, form, "table", long, "fa", "fb", "fc")
         lone = Form(PAIRS, ("a",), ("either", ("a", "a")))
         form = Form(PAIRS.with_table("one", derived_table(lone, "a")), THIRTY, *[("one", (field,)) for field in THIRTY])
         self.assertEqual(self.check(form, "one", lone, "a").rules, tuple(("either", (field,) * 2) for field in form.fields))
@@ -399,7 +402,8 @@ class ClosingHoldsTests(Checks, unittest.TestCase):
         before = state([closure, steps, self.TABLE, RING, STRANGE, OBJECTS])
         for thing in STRANGE + OBJECTS + (nested(40), [closure, steps], (closure,), (closure, steps, ()), {0: closure}):
             others = [
-                thing, (thing, steps), (closure, thing), (thing, thing), (closure, steps + (thing,)), (closure, (thing,) + steps),
+                thing, (thing, steps), (closure, thing), (thing, thing), (closure, steps + (thing,)),
+                (closure, (thing,) + steps),
             ]
             lasts = [
                 thing, (thing, rows), (row, thing), (row, rows[:2] + (thing,)), (row, rows[:2] + ((thing,) * 3,)),

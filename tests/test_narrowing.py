@@ -2,7 +2,7 @@
 
 import random
 import unittest
-from itertools import product
+from itertools import combinations, product
 
 from brute import (
     BOOKS, COLOURS, HORNS, NEXT, ODDS, TRIO, all_answers, all_choices, all_fillings, all_sets, choice_keeps,
@@ -246,7 +246,7 @@ class BlindTests(Checks, unittest.TestCase):
         answers = tuple((field, "no") for field in THIRTY[2::2])
         self.holds(PAIRS, (form, answers, derivation))
         self.holds(PAIRS, (form, ((THIRTY[1], "no"),) + answers, derivation), False)
-        colours = Form(COLOURS, THIRTY, *[("unlike", (THIRTY[a], THIRTY[b])) for a, b in product(range(4), repeat=2) if a < b])
+        colours = Form(COLOURS, THIRTY, *[("unlike", pair) for pair in combinations(THIRTY[:4], 2)])
         steps = standing(Form(COLOURS, THIRTY[:4], *colours.rules))[1]
         self.holds(COLOURS, (colours, (), steps))
 

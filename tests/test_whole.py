@@ -66,8 +66,8 @@ CLASSES = {
         "completed": "*answers", "hiding": "*fields",
     }},
     "desks": {"Desk": {
-        "__init__": "form answers=() bound=None", "__getitem__": "field", "__setitem__": "field value", "__contains__": "field",
-        "__len__": "", "__iter__": "", "form": "", "answers": "", "settled": "", "bound": "", "set_bound": "bound",
+        "__init__": "form answers=() bound=None", "__getitem__": "field", "__setitem__": "field value",
+        "__contains__": "field", "__len__": "", "__iter__": "", "form": "", "answers": "", "settled": "", "bound": "", "set_bound": "bound",
         "answer": "field value", "take_back": "*fields", "open_values": "field", "why_not": "field value", "filling": "",
         "trial": "*answers", "add_rules": "*rules", "drop_rules": "*rules", "add_field": "field hidden=False",
         "drop_field": "field", "hide": "field", "show": "field", "add_table": "name table", "drop_table": "name",
