@@ -1,6 +1,6 @@
 """Votes and choices: functions that complete forms if they keep the tables of a book."""
 
-from clashnumber.basics import all_rows, ascending, is_domain, is_row, nonempty_sets
+from clashnumber.basics import all_rows, ascending, is_domain, is_row, nonempty_sets, without
 from clashnumber.candidates import candidates_left
 from clashnumber.errors import NoChoice, NoVote
 
@@ -127,6 +127,6 @@ class Choice:
 def winner(some):
     """The value that all, or all but one, of these are, or None."""
     for value in some:
-        if some.count(value) >= len(some) - 1:
+        if len(without(some, value)) < 2:
             return value
     return None

@@ -66,5 +66,6 @@ def steps_of(proof):
 
 def goes_with(row, fields, pairs):
     """Whether the fields of a rule can have the values of the row, and those of the pairs, together."""
-    value_of = {field: pairs[field] for field in fields if field in pairs}
-    return all([value_of.setdefault(field, value) == value for field, value in zip(fields, row)])
+    # Of several places of one field the last one tells its value.
+    value_of = dict(zip(fields, row))
+    return all([value == value_of[field] == pairs.get(field, value) for field, value in zip(fields, row)])

@@ -108,7 +108,7 @@ class Pool:
         filling, _ = self.search.outcome(answers)
         if filling is None:
             return False
-        for pair in zip(self.search.fields, filling):
+        for pair in list(zip(self.search.fields, filling)):
             self.having[pair] = self.having[pair] + self.power
         self.power = self.power * 2
         return True

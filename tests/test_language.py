@@ -101,6 +101,42 @@ def new_locals(function, classes):
     return made - other
 
 
+def changed_in(part):
+    """What is changed in a part of the source: what an item or an attribute is set of, or a changing method called of."""
+    found = []
+    for node in ast.walk(part):
+        if isinstance(node, (ast.Subscript, ast.Attribute)) and not isinstance(node.ctx, ast.Load):
+            found.append(node.value)
+        elif isinstance(node, ast.Call) and isinstance(node.func, ast.Attribute) and node.func.attr in CHANGES:
+            found.append(node.func.value)
+    return found
+
+
+def walked_by(node):
+    """The names and the attributes that a loop over this goes over, not over a copy of them."""
+    if isinstance(node, (ast.Name, ast.Attribute)):
+        return [node]
+    if isinstance(node, ast.Subscript):
+        return walked_by(node.value)
+    if isinstance(node, ast.IfExp):
+        return walked_by(node.body) + walked_by(node.orelse)
+    if isinstance(node, ast.BoolOp):
+        return [found for part in node.values for found in walked_by(part)]
+    if isinstance(node, ast.Call) and word(node) in ("zip", "enumerate", "reversed", "items", "keys", "values"):
+        held = [node.func.value] if isinstance(node.func, ast.Attribute) else []
+        return [found for part in held + node.args for found in walked_by(part)]
+    return []
+
+
+def around(node, function):
+    """What stands around a part of a function, within the function."""
+    found = []
+    while node.parent is not function:
+        node = node.parent
+        found.append(node)
+    return found
+
+
 class LanguageTests(unittest.TestCase):
     @classmethod
     def setUpClass(cls):
@@ -218,21 +254,26 @@ class LanguageTests(unittest.TestCase):
         self.assertTrue({"settled_pairs", "tables_joined", "outcome", "narrow", "number_of"} <= names)
         classes = tuple(node.name for node in self.classes)
         methods = {node.name for node in self.functions if isinstance(node.parent, ast.ClassDef)}
+        # What has the name of an attribute could be what the object holds.
+        held = {node.attr for node, _ in self.each(ast.Attribute) if isinstance(node.ctx, ast.Store)}
+        held |= {node.name for node in self.functions if has_decorator(node, "property")}
+        inner = (ast.ListComp, ast.DictComp, ast.SetComp, ast.GeneratorExp, ast.Lambda, ast.FunctionDef)
         for function in run:
             made = new_locals(function, classes) | ({"self"} if function.name == "__init__" else set())
+            for changed in changed_in(function):
+                place = (function.name, changed.lineno)
+                self.assertIsInstance(changed, ast.Name, place)
+                self.assertIn(changed.id, made, place)
+                self.assertFalse([part for part in around(changed, function) if isinstance(part, inner)], place)
+                self.assertNotIn(function.name, self.generators, place)
             for node in ast.walk(function):
-                changed = None
-                if isinstance(node, (ast.Subscript, ast.Attribute)) and not isinstance(node.ctx, ast.Load):
-                    changed = node.value
-                elif isinstance(node, ast.Call) and getattr(node.func, "attr", "") in CHANGES:
-                    changed = node.func.value
-                if changed is not None:
-                    self.assertIsInstance(changed, ast.Name, (function.name, node.lineno))
-                    self.assertIn(changed.id, made, (function.name, node.lineno))
+                place = (function.name, getattr(node, "lineno", 0))
+                self.assertNotIsInstance(node, (ast.AugAssign, ast.Delete), place)
                 if isinstance(node, ast.Call) and isinstance(node.func, ast.Name):
-                    self.assertNotIn(node.func.id, bound_names(function), (function.name, node.lineno))
+                    self.assertNotIn(node.func.id, bound_names(function), place)
+                    self.assertNotEqual(node.func.id, "map", place)
                 elif isinstance(node, ast.Call):
-                    self.assertIn(node.func.attr, METHODS | methods, (function.name, node.lineno))
+                    self.assertIn(node.func.attr, (METHODS | methods) - held, place)
 
     def test_l5_properties(self):
         found = {node.name for node in self.functions if has_decorator(node, "property")}
@@ -327,6 +368,19 @@ class LanguageTests(unittest.TestCase):
             if word(node) == "reversed" and isinstance(node.func, ast.Name):
                 self.assertIsInstance(node.args[0], (ast.Call, ast.List, ast.Tuple), place)
             self.assertFalse(word(node) == "sort", place)
+
+    def test_l23_what_a_loop_goes_over_is_not_changed_in_it(self):
+        for node, place in self.each(ast.For, ast.ListComp, ast.DictComp, ast.SetComp, ast.GeneratorExp):
+            heads = [node.iter] if isinstance(node, ast.For) else [part.iter for part in node.generators]
+            walked = [found for head in heads for found in walked_by(head)]
+            names = {part.id for part in walked if isinstance(part, ast.Name)}
+            for changed in changed_in(node):
+                while isinstance(changed, ast.Subscript):
+                    changed = changed.value
+                self.assertNotIn(getattr(changed, "id", None), names, place)
+                # An attribute that is changed may be what another attribute that is gone over holds.
+                if not isinstance(changed, ast.Name):
+                    self.assertFalse([part for part in walked if isinstance(part, ast.Attribute)], place)
 
     def test_l24_sets(self):
         for node, place in self.each(ast.Call, ast.Set, ast.SetComp):
